@@ -9,7 +9,7 @@ def is_pair(thing):
 
 
 def ascending(things):
-    """The set of these things: strings, or tuples that can stand in a set of Python."""
+    """The set of these things: strings, integers, or tuples that can stand in a set of Python."""
     # sorted(set(..)) and not sorted(..): a set of the document has no duplicates.
     return tuple(sorted(set(things)))
 
@@ -19,3 +19,8 @@ def is_figures(word):
     if len(word) > MOST_DIGITS or word.startswith("0"):
         return False
     return word.isascii() and word.isdigit()
+
+
+def is_number_word(word):
+    """Whether a string writes a number, with at most sixty digits and no leading zero but 0 itself."""
+    return word == "0" or is_figures(word)

@@ -3,15 +3,21 @@
 from firstletter.errors import InvalidPaper, NotUsable
 from firstletter.helpers import ascending, is_pair
 from firstletter.kinds import is_number, is_store
-from firstletter.webparts import are_numbers, fee_of, form_of, has_of, names_of, stores_of, stores_of_kind
+from firstletter.webparts import are_numbers, can_send, fee_of, has_of, names_of, number_of, stores_of, stores_of_kind
+from firstletter.webparts import table_of
+
+
+def check_marks(marks):
+    """NotUsable for marks that are no number."""
+    if not is_number(marks):
+        raise NotUsable("marks", -1)
 
 
 def check_setting(web, numbers, marks):
     """NotUsable for numbers that are no numbers of the web, then for marks that are no number."""
     if not are_numbers(web, numbers):
         raise NotUsable("numbers", -1)
-    if not is_number(marks):
-        raise NotUsable("marks", -1)
+    check_marks(marks)
 
 
 def asking_store(web):
@@ -23,7 +29,7 @@ def is_store_of(web, numbers, thing):
     """Whether any value is a store of the web with these numbers."""
     if not is_store(thing) or thing[0] not in names_of(web):
         return False
-    return thing[1] < numbers[names_of(web).index(thing[0])]
+    return thing[1] < number_of(web, numbers, thing[0])
 
 
 def are_two_stores(web, numbers, thing):
@@ -33,10 +39,9 @@ def are_two_stores(web, numbers, thing):
 
 def sent_to(web, numbers, store, mark):
     """The stores to which this one sends when it takes the ask with this mark, ascending."""
-    _, fee, has, table = form_of(web, store[0])
-    if has or mark < fee:
+    if not can_send(web, store[0], mark):
         return []
-    return [other for kind in table for other in stores_of_kind(web, numbers, kind) if other != store]
+    return [other for kind in table_of(web, store[0]) for other in stores_of_kind(web, numbers, kind) if other != store]
 
 
 def follow(web, numbers, marks, thing):

@@ -38,6 +38,12 @@ def senders_to(web, kind):
     return tuple([row[0] for row in web[0] if name in row[3]])
 
 
+def can_send(web, kind, mark):
+    """Whether a store of this kind passes an ask on that it takes with this mark."""
+    _, fee, has, _ = form_of(web, kind)
+    return not has and mark >= fee
+
+
 def are_numbers(web, thing):
     """Whether any value is numbers of the web: for each kind, how many stores it has."""
     if not isinstance(thing, tuple) or len(thing) != len(web[0]):
@@ -45,10 +51,14 @@ def are_numbers(web, thing):
     return all([is_positive(number) for number in thing])
 
 
+def number_of(web, numbers, kind):
+    """What a tuple with a number for each kind has for this one: how many stores, or how many uses."""
+    return numbers[names_of(web).index(kind)]
+
+
 def stores_of_kind(web, numbers, kind):
     """The stores of one kind, ascending."""
-    many = numbers[names_of(web).index(kind)]
-    return [(kind, i) for i in range(many)]
+    return [(kind, i) for i in range(number_of(web, numbers, kind))]
 
 
 def stores_of(web, numbers):

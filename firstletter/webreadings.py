@@ -1,7 +1,7 @@
 """Webs, kinds and numbers read from texts."""
 
 from firstletter.errors import InvalidText
-from firstletter.helpers import is_figures
+from firstletter.helpers import is_figures, is_number_word
 from firstletter.kinds import is_name, is_table
 
 KIND_WORDS = 5
@@ -71,3 +71,11 @@ def web_read(text):
             return tuple(kinds), asker
         kinds.append(kind_read(row, line=k))
     raise InvalidText(len(lines), 0)
+
+
+def pair_read(word):
+    """The pair of a name and a number that a word writes; None if it writes none."""
+    name, _, figures = word.partition(":")
+    if not is_name(name) or not is_number_word(figures):
+        return None
+    return name, int(figures)

@@ -23,3 +23,9 @@ def web_text(web):
 def numbers_text(numbers):
     """Numbers as one word."""
     return ",".join([str(number) for number in numbers])
+
+
+def pair_text(pair):
+    """A pair of a name and a number as one word: a store, or a pair of a plan."""
+    name, number = pair
+    return f"{name}:{number}"

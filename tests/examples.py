@@ -3,6 +3,8 @@
 import copy
 import unittest
 
+from firstletter.errors import NotUsable
+
 NEAR = ((('a', 1, False, ('b', 'd')), ('b', 1, False, ('c',)), ('c', 1, False, ()), ('d', 1, False, ('b',))), 'a')
 RING = ((('a', 1, False, ('b', 'd')), ('b', 1, False, ('c',)), ('c', 1, False, ()), ('d', 1, False, ('b', 'd'))), 'a')
 ALIKE = ((('s', 1, False, ('s',)),), 's')
@@ -41,6 +43,8 @@ NO_STORES = (None, True, 0, 'a', '', (), [], ('a',), ('a', 0, 0), ['a', 0], ('a'
 NO_LETTERS = (None, True, 0, 'a', 'ab', '', (), [], (A,), [A, D], (A, D, B), 5, *NO_STORES[:-1],
               *[(A, store) for store in NO_STORES], *[(store, D) for store in NO_STORES])
 
+NO_KINDS = (*JUNK, 'e', 'aa', 'B', ('a',), ['c'], 0, 1, A, NEAR[0][0])
+
 
 def shown(value):
     """A string for each value, which tells True from 1, a tuple from a list, and objects by class and form."""
@@ -49,6 +53,8 @@ def shown(value):
         return type(value).__name__ + ' of ' + ' '.join(f'({shown(row)})' for row in rows)
     if hasattr(value, 'form'):
         return type(value).__name__ + ' ' + repr(value.form)
+    if type(value).__module__.startswith('firstletter.'):
+        return type(value).__name__ + ' ' + shown(vars(value))
     return repr(value)
 
 
@@ -81,3 +87,17 @@ class Case(unittest.TestCase):
             self.assertEqual(fields_of(error), fields_of(wanted), (args, more))
             return
         self.fail(f'{function} of {args!r} {more!r} returned {got!r}, and did not raise {wanted!r}')
+
+    def refuses(self, function, web, *rows):
+        """Each row is the name, a right value and wrong values of a parameter behind web, in their order: of several
+        that are not as they have to be the first one is told."""
+        names = [name for name, _, _ in rows]
+        right = [value for _, value, _ in rows]
+        for k, (name, _, wrongs) in enumerate(rows):
+            for wrong in wrongs:
+                given = [*right[:k], wrong, *right[k + 1:]]
+                self.fails(NotUsable(name, -1), function, web, *given)
+                self.fails(NotUsable(name, -1), function, web, *given[:k + 1], *[None] * len(right[k + 1:]))
+            if wrongs:
+                given = dict(zip(names, [*right[:k], wrongs[-1], *right[k + 1:]]))
+                self.fails(NotUsable(name, -1), function, web=web, **given)

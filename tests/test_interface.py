@@ -20,15 +20,49 @@ FUNCTIONS = {
                 ('waiting_after', 'takings_after', 'missed_after', 'is_over', 'has_found')}},
     'trees': {'tree_of': '(web, numbers, marks, made)', 'lets_tree': '(web, numbers, marks, thing)',
               'run_of_tree': '(web, numbers, marks, tree)'},
+    'stories': {'story_of': '(web, numbers, marks, made)'},
+    'pictures': {'picture': '(web, numbers, marks, made)'},
+    'plans': {'pairs_of': '(web, marks)', 'is_plan': '(web, marks, thing)', 'closed_plans': '(web, marks)',
+              **{name: '(web, marks, plan)' for name in
+                 ('kinds_of', 'near_kinds', 'quiet_kinds', 'uses_of', 'is_closed')},
+              'fits': '(web, numbers, marks, plan)'},
+    'planchecker': {'lets_plan': '(web, marks, thing)'},
 }
 CLASSES = {
-    'Web': ('(kinds, asker)', {
-        'sending': '(self, kind, other)', 'sparing': '(self, kind, other)', 'costing': '(self, kind, fee)',
-        'holding': '(self, kind, has)', 'asking': '(self, kind)', 'calling': '(self, kind, name)'}),
-    'Dearer': ('(web, *, by=1)', {}),
-    'Emptied': ('(web, *names)', {}),
+    'webclasses': {
+        'Web': ('(kinds, asker)', {
+            'sending': '(kind, other)', 'sparing': '(kind, other)', 'costing': '(kind, fee)', 'holding': '(kind, has)',
+            'asking': '(kind)', 'calling': '(kind, name)', 'parsed': '(text)', 'plain': '(*fees)'}),
+        'Dearer': ('(web, *, by=1)', {}),
+        'Emptied': ('(web, *names)', {}),
+    },
+    'runclasses': {
+        'Run': ('(web, numbers, marks, letters=())', {'read': '(web, numbers, marks, text)'}),
+    },
+    'walkers': {
+        'Walker': ('(web, numbers, marks)', {
+            'go': '(letter)', 'finish': '()', 'undo': '()', 'set_made': '(made)', 'trial': '()', 'tried': '(*letters)'}),
+    },
 }
-OPERATORS = ('getitem', 'contains', 'len', 'iter', 'call', 'eq', 'str', 'add', 'sub')
+OPERATORS = {
+    'Web': ('getitem', 'contains', 'len', 'iter', 'call', 'eq', 'str', 'add', 'sub'),
+    'Run': ('getitem', 'contains', 'len', 'iter', 'eq', 'le', 'ge', 'str', 'add'),
+    'Walker': ('iadd',),
+}
+PROPERTIES = {
+    'Web': ('kinds', 'asker', 'form'),
+    'Dearer': ('source',),
+    'Emptied': ('source',),
+    'Run': ('made', 'waiting_now', 'takings_now', 'missed_now', 'tree_now', 'over_now'),
+    'Walker': ('path', 'waiting_now', 'takings_now', 'missed_now', 'tree_now', 'over_now'),
+}
+
+
+def all_classes():
+    """The name of each class, the class, its parameters, and its methods with theirs."""
+    for module, rows in CLASSES.items():
+        for name, (parameters, methods) in rows.items():
+            yield name, getattr(importlib.import_module(f'firstletter.{module}'), name), module, parameters, methods
 
 
 class InterfaceTest(unittest.TestCase):
@@ -40,21 +74,21 @@ class InterfaceTest(unittest.TestCase):
                 self.assertEqual(function.__module__, f'firstletter.{module}', name)
                 self.assertEqual(str(inspect.signature(function)), parameters, name)
 
-    def test_classes_stand_in_their_file(self):
-        webclasses = importlib.import_module('firstletter.webclasses')
-        for name, (parameters, methods) in CLASSES.items():
-            made = getattr(webclasses, name)
-            self.assertEqual(made.__module__, 'firstletter.webclasses')
-            self.assertEqual(str(inspect.signature(made)), parameters)
+    def test_classes_stand_in_their_files(self):
+        for name, made, module, parameters, methods in all_classes():
+            self.assertEqual(made.__module__, f'firstletter.{module}')
+            self.assertEqual(str(inspect.signature(made)), parameters, name)
             for method, taken in methods.items():
-                self.assertEqual(str(inspect.signature(vars(made)[method])), taken, method)
+                self.assertIn(method, vars(made))
+                shown = str(inspect.signature(getattr(made, method)))
+                self.assertEqual(shown.replace('(self, ', '(').replace('(self)', '()'), taken, method)
 
-    def test_operators_stand_in_the_class_itself(self):
-        web = importlib.import_module('firstletter.webclasses').Web
-        for word in OPERATORS:
-            self.assertIn(f'__{word}__', vars(web))
-        self.assertEqual(str(inspect.signature(web.parsed)), '(text)')
-        self.assertEqual(str(inspect.signature(web.plain)), '(*fees)')
+    def test_operators_and_properties_stand_in_the_class_itself(self):
+        for name, made, _, _, _ in all_classes():
+            for word in OPERATORS.get(name, ()):
+                self.assertIn(f'__{word}__', vars(made))
+            for word in PROPERTIES[name]:
+                self.assertIsInstance(vars(made)[word], property)
 
 
 if __name__ == '__main__':
