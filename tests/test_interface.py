@@ -27,6 +27,11 @@ FUNCTIONS = {
                  ('kinds_of', 'near_kinds', 'quiet_kinds', 'uses_of', 'is_closed')},
               'fits': '(web, numbers, marks, plan)'},
     'planchecker': {'lets_plan': '(web, marks, thing)'},
+    'planruns': {'plan_of': '(web, numbers, marks, made)', 'tree_of_plan': '(web, numbers, marks, plan)'},
+    'reach': {'best_marks': '(web, marks)', 'near_of': '(web, marks)'},
+    'misses': {'missed_kinds': '(web, numbers, marks)', 'least_numbers': '(web, marks, kind)',
+               **{name: '(web, numbers, marks, kind)' for name in ('can_miss', 'missing_run', 'first_marks')}},
+    'misspapers': {'miss_paper': '(web, numbers, marks, kind)'},
 }
 CLASSES = {
     'webclasses': {
@@ -43,11 +48,17 @@ CLASSES = {
         'Walker': ('(web, numbers, marks)', {
             'go': '(letter)', 'finish': '()', 'undo': '()', 'set_made': '(made)', 'trial': '()', 'tried': '(*letters)'}),
     },
+    'planclasses': {
+        'Plan': ('(web, marks, pairs)', {
+            'fits': '(numbers)', 'grown': '()', 'first': '(web, marks)', 'widest': '(web, marks, *, without=())',
+            'parsed': '(web, marks, text)'}),
+    },
 }
 OPERATORS = {
     'Web': ('getitem', 'contains', 'len', 'iter', 'call', 'eq', 'str', 'add', 'sub'),
     'Run': ('getitem', 'contains', 'len', 'iter', 'eq', 'le', 'ge', 'str', 'add'),
     'Walker': ('iadd',),
+    'Plan': ('getitem', 'contains', 'len', 'eq', 'le', 'ge', 'str', 'add', 'or'),
 }
 PROPERTIES = {
     'Web': ('kinds', 'asker', 'form'),
@@ -55,6 +66,7 @@ PROPERTIES = {
     'Emptied': ('source',),
     'Run': ('made', 'waiting_now', 'takings_now', 'missed_now', 'tree_now', 'over_now'),
     'Walker': ('path', 'waiting_now', 'takings_now', 'missed_now', 'tree_now', 'over_now'),
+    'Plan': ('web', 'marks', 'pairs', 'kinds', 'near', 'quiet', 'uses', 'is_closed'),
 }
 
 
