@@ -88,7 +88,8 @@ class Walker:
         made = self._run.made
         if len(made) == 0:
             raise NothingToUndo(0)
-        self._run = Run(*self._setting, made[:-1])
+        rest = made[:-1]
+        self._run = Run(*self._setting, rest)
         return made[-1]
 
     def set_made(self, made):
