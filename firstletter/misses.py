@@ -2,10 +2,9 @@
 
 from firstletter.errors import Missed
 from firstletter.helpers import ascending
-from firstletter.planruns import tree_for
+from firstletter.planruns import run_for
 from firstletter.plans import closed_within, has_room, leavings, least_plan, uses_in, widest_pairs
 from firstletter.runs import check_marks, check_setting
-from firstletter.trees import run_of_tree
 from firstletter.webparts import can_send, form_of, names_of, number_of, table_of
 
 
@@ -19,21 +18,30 @@ def has_others(web, numbers, kind):
     return kind != web[1] or number_of(web, numbers, kind) >= 2
 
 
-def missing_plans(web, marks, kind):
-    """All closed plans in which the kind is not near."""
-    pairs = [pair for pair in widest_pairs(web, marks, ()) if kind not in table_of(web, pair[0])]
+def plans_without(web, marks, kinds):
+    """All closed plans in which none of these kinds is near."""
+    pairs = [pair for pair in widest_pairs(web, marks, ()) if not leads_to(web, pair, kinds)]
     if not all([pair in pairs for pair in least_plan(web, marks)]):
         return []
     return closed_within(web, marks, pairs)
 
 
+def leads_to(web, pair, kinds):
+    """Whether a pair leads to one of these kinds."""
+    return any([kind in kinds for kind in table_of(web, pair[0])])
+
+
+def plan_without(web, numbers, marks, kinds):
+    """A closed plan that fits and in which none of these kinds is near; None if there is none."""
+    for plan in plans_without(web, marks, kinds):
+        if has_room(web, numbers, plan):
+            return plan
+    return None
+
+
 def missing_plan(web, numbers, marks, kind):
     """A closed plan that fits and misses the kind; None if the kind cannot be missed."""
-    if has_others(web, numbers, kind):
-        for plan in missing_plans(web, marks, kind):
-            if has_room(web, numbers, plan):
-                return plan
-    return None
+    return plan_without(web, numbers, marks, (kind,)) if has_others(web, numbers, kind) else None
 
 
 def can_miss(web, numbers, marks, kind):
@@ -68,7 +76,7 @@ def least_numbers(web, marks, kind):
     """The set of the least numbers with which the kind can be missed."""
     check_marks(marks)
     check_kind(web, kind)
-    needs = ascending([needs_of(web, plan, kind) for plan in missing_plans(web, marks, kind)])
+    needs = ascending([needs_of(web, plan, kind) for plan in plans_without(web, marks, (kind,))])
     return tuple([row for row in needs if not any([row != other and are_at_least(row, other) for other in needs])])
 
 
@@ -77,9 +85,7 @@ def missing_run(web, numbers, marks, kind):
     check_setting(web, numbers, marks)
     check_kind(web, kind)
     plan = missing_plan(web, numbers, marks, kind)
-    if plan is None:
-        return None
-    return run_of_tree(web, numbers, marks, tree_for(web, numbers, plan))
+    return None if plan is None else run_for(web, numbers, marks, plan)
 
 
 def first_marks(web, numbers, marks, kind):

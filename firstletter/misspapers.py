@@ -2,7 +2,7 @@
 
 from firstletter.helpers import ascending
 from firstletter.misses import check_kind, has_others, missing_plan
-from firstletter.plans import followers, has_stores, least_plan, near_in
+from firstletter.plans import least_plan, near_in, rows_behind
 from firstletter.runs import check_setting
 
 
@@ -27,9 +27,8 @@ def rows_until(web, numbers, marks, kind):
         plan = fresh.pop()
         if kind in near_in(web, plan):
             continue
-        for pair in followers(web, plan):
-            row = ascending([*plan, pair])
-            if row not in found and has_stores(web, numbers, row):
+        for row in rows_behind(web, numbers, plan):
+            if row not in found:
                 found[row] = True
                 fresh.append(row)
     return ascending(found)

@@ -6,7 +6,7 @@ from firstletter.kinds import is_number, is_store, is_table
 from firstletter.plans import followers, has_room, is_plan_of, kinds_in, least_plan, near_in, open_kind, quiet_in
 from firstletter.plans import uses_in, widest_pairs
 from firstletter.runs import check_marks
-from firstletter.webparts import are_numbers, names_of
+from firstletter.webparts import check_numbers, names_of
 from firstletter.webreadings import pair_read
 from firstletter.webtexts import pair_text
 
@@ -79,8 +79,7 @@ class Plan:
 
     def fits(self, numbers):
         """Whether the plan fits numbers."""
-        if not are_numbers(self._web, numbers):
-            raise NotUsable("numbers", -1)
+        check_numbers(self._web, numbers)
         return has_room(self._web, numbers, self._pairs)
 
     def __contains__(self, thing):

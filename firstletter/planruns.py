@@ -4,6 +4,7 @@ from firstletter.errors import NotUsable
 from firstletter.helpers import ascending
 from firstletter.plans import has_room, is_plan_of, kinds_in, leavings, open_kind
 from firstletter.runs import asking_store, check_setting, follow_made
+from firstletter.trees import run_of_tree
 from firstletter.webparts import can_send, stores_of_kind
 
 
@@ -45,3 +46,8 @@ def tree_for(web, numbers, plan):
     stores = [store for kind in others for store in stores_of_kind(web, numbers, kind)]
     asking = asking_store(web)
     return ascending([(store, parents[held.get(store, others[store[0]])]) for store in stores if store != asking])
+
+
+def run_for(web, numbers, marks, plan):
+    """A run that is over, of which the senders have just the pairs of a closed plan that fits."""
+    return run_of_tree(web, numbers, marks, tree_for(web, numbers, plan))

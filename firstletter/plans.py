@@ -31,6 +31,14 @@ def followers(web, plan):
     return tuple([pair for pair in found if pair not in plan and can_send(web, pair[0], pair[1])])
 
 
+def rows_behind(web, numbers, plan):
+    """A plan with each of the pairs that can be added to it, if there is a store for this pair, too."""
+    uses = uses_in(web, plan)
+    pairs = [pair for pair in followers(web, plan)
+             if number_of(web, uses, pair[0]) < number_of(web, numbers, pair[0])]
+    return [ascending([*plan, pair]) for pair in pairs]
+
+
 def widest_pairs(web, marks, without):
     """The set of the pairs that come, again and again, behind the least plan, none of a kind in without."""
     found = {pair: True for pair in least_plan(web, marks)}

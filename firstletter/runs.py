@@ -3,7 +3,7 @@
 from firstletter.errors import InvalidPaper, NotUsable
 from firstletter.helpers import ascending, is_pair
 from firstletter.kinds import is_number, is_store
-from firstletter.webparts import are_numbers, can_send, fee_of, has_of, names_of, number_of, stores_of, stores_of_kind
+from firstletter.webparts import can_send, check_numbers, fee_of, has_of, names_of, number_of, stores_of, stores_of_kind
 from firstletter.webparts import table_of
 
 
@@ -15,8 +15,7 @@ def check_marks(marks):
 
 def check_setting(web, numbers, marks):
     """NotUsable for numbers that are no numbers of the web, then for marks that are no number."""
-    if not are_numbers(web, numbers):
-        raise NotUsable("numbers", -1)
+    check_numbers(web, numbers)
     check_marks(marks)
 
 

@@ -51,6 +51,12 @@ def are_numbers(web, thing):
     return all([is_positive(number) for number in thing])
 
 
+def check_numbers(web, thing):
+    """NotUsable for any value that is no numbers of the web."""
+    if not are_numbers(web, thing):
+        raise NotUsable("numbers", -1)
+
+
 def number_of(web, numbers, kind):
     """What a tuple with a number for each kind has for this one: how many stores, or how many uses."""
     return numbers[names_of(web).index(kind)]
@@ -63,6 +69,5 @@ def stores_of_kind(web, numbers, kind):
 
 def stores_of(web, numbers):
     """The set of all stores; NotUsable if numbers are no numbers of the web."""
-    if not are_numbers(web, numbers):
-        raise NotUsable("numbers", -1)
+    check_numbers(web, numbers)
     return tuple([store for kind in names_of(web) for store in stores_of_kind(web, numbers, kind)])

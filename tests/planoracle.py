@@ -226,3 +226,25 @@ def rows_behind(web, numbers, marks, row):
     return [tuple(sorted((*row, pair))) for pair in all_pairs(web, marks)
             if pair not in row and is_led(web, row, pair) and uses(web, (*row, pair))[names(web).index(pair[0])]
             <= limits[pair[0]]]
+
+
+def letters_sent(web, numbers, taken):
+    """How many letters the stores send that took the ask with these marks."""
+    return sum(1 for store, mark in taken.items() for other in all_stores(web, numbers) if sends(web, store, mark, other))
+
+
+def least_sent(web, numbers, plan):
+    """How many letters are sent if as few stores send as can be, for a closed plan: by the words of [54]."""
+    quiet, near = quiet_kinds(web, plan), near_kinds(web, plan)
+    sent = 0
+    for kind, many, number in zip(names(web), uses(web, plan), numbers):
+        senders = number if kind in near and kind not in quiet else many
+        for other, more in zip(names(web), numbers):
+            if other in row_of(web, kind)[3]:
+                sent += senders * (more - (other == kind))
+    return sent
+
+
+def find(web, taken):
+    """Whether a store took the ask that has the thing."""
+    return any(row_of(web, store[0])[2] for store in taken)

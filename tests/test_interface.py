@@ -32,6 +32,11 @@ FUNCTIONS = {
     'misses': {'missed_kinds': '(web, numbers, marks)', 'least_numbers': '(web, marks, kind)',
                **{name: '(web, numbers, marks, kind)' for name in ('can_miss', 'missing_run', 'first_marks')}},
     'misspapers': {'miss_paper': '(web, numbers, marks, kind)'},
+    'misschecker': {'lets_miss': '(web, numbers, marks, kind, thing)'},
+    'letters': {'most_letters': '(web, marks)', 'least_counts': '(web, marks)', 'least_letters': '(web, numbers, marks)',
+                'letters_of': '(web, numbers, marks, made)'},
+    'finding': {'is_surely_found': '(web, numbers, marks)', 'failing_run': '(web, numbers, marks)'},
+    'sure': {'sure_marks': '(web, numbers, most)'},
 }
 CLASSES = {
     'webclasses': {
@@ -53,12 +58,16 @@ CLASSES = {
             'fits': '(numbers)', 'grown': '()', 'first': '(web, marks)', 'widest': '(web, marks, *, without=())',
             'parsed': '(web, marks, text)'}),
     },
+    'counts': {
+        'Count': ('(terms=())', {'worth': '(*pairs)', 'parsed': '(text)', 'unknown': '(name)'}),
+    },
 }
 OPERATORS = {
     'Web': ('getitem', 'contains', 'len', 'iter', 'call', 'eq', 'str', 'add', 'sub'),
     'Run': ('getitem', 'contains', 'len', 'iter', 'eq', 'le', 'ge', 'str', 'add'),
     'Walker': ('iadd',),
     'Plan': ('getitem', 'contains', 'len', 'eq', 'le', 'ge', 'str', 'add', 'or'),
+    'Count': ('len', 'add', 'mul', 'eq', 'str'),
 }
 PROPERTIES = {
     'Web': ('kinds', 'asker', 'form'),
@@ -67,6 +76,7 @@ PROPERTIES = {
     'Run': ('made', 'waiting_now', 'takings_now', 'missed_now', 'tree_now', 'over_now'),
     'Walker': ('path', 'waiting_now', 'takings_now', 'missed_now', 'tree_now', 'over_now'),
     'Plan': ('web', 'marks', 'pairs', 'kinds', 'near', 'quiet', 'uses', 'is_closed'),
+    'Count': ('terms', 'names'),
 }
 
 

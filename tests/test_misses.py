@@ -54,6 +54,11 @@ class ReachTest(Case):
                 for store, other in [*run, *waiting]:
                     self.assertLessEqual(taken[store] - row_of(web, store[0])[1], best[other[0]])
 
+    def test_great_marks(self):
+        self.same(best_marks(NEAR, 10 ** 59), (-1, 10 ** 59 - 1, 10 ** 59 - 2, 10 ** 59 - 1))
+        self.same(best_marks(ALIKE, 10 ** 59), (10 ** 59 - 1,))
+        self.same(near_of(RING, 10 ** 59), ('b', 'c', 'd'))
+
     def test_of_the_kind_of_the_asker(self):
         self.same(best_marks(NEAR, 9)[0], -1)
         self.same(best_marks(ALIKE, 1), (0,))
