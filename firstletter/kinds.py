@@ -89,6 +89,11 @@ def is_letter(thing):
     return is_pair(thing) and is_store(thing[0]) and is_store(thing[1])
 
 
+def is_guard(thing):
+    """Whether any value is a word for a guard."""
+    return isinstance(thing, str) and thing in ("on", "off")
+
+
 def is_event(thing):
     """Whether any value is an event by form."""
     if not isinstance(thing, tuple) or len(thing) == 0:
@@ -96,5 +101,5 @@ def is_event(thing):
     if thing[0] == "came":
         return is_letter(thing[1:])
     if thing[0] == "guard":
-        return len(thing) == 2 and thing[1] in ("on", "off")
+        return len(thing) == 2 and is_guard(thing[1])
     return thing[0] == "note" and len(thing) == 2 and is_name(thing[1])

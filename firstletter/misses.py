@@ -3,7 +3,7 @@
 from firstletter.errors import Missed
 from firstletter.helpers import ascending
 from firstletter.planruns import run_for
-from firstletter.plans import closed_within, has_room, leavings, least_plan, uses_in, widest_pairs
+from firstletter.plans import closed_within, has_room, leavings, least_plan, near_in, rows_behind, uses_in, widest_pairs
 from firstletter.runs import check_marks, check_setting
 from firstletter.webparts import can_send, form_of, names_of, number_of, table_of
 
@@ -106,3 +106,38 @@ def marks_at(web, numbers, plan, kind):
     is_spare = number_of(web, uses_in(web, plan), kind) < number_of(web, numbers, kind)
     left = [pair for pair in leavings(web, plan) if pair[0] == kind]
     return [pair[1] for pair in left if pair in plan or (is_spare and not can_send(web, kind, pair[1]))]
+
+
+def missable_kinds(web, numbers, takings):
+    """The set of the kinds of which a store is missed in some run that goes on behind these takings and is over."""
+    names = names_of(web)
+    taken = [store[0] for store, _ in takings]
+    spare = tuple([number - taken.count(kind) for kind, number in zip(names, numbers)])
+    senders = ascending([(store[0], mark) for store, mark in takings if can_send(web, store[0], mark)])
+    return tuple([kind for kind, many in zip(names, spare) if many > 0 and can_end(web, spare, senders, kind)])
+
+
+def can_end(web, spare, senders, kind):
+    """Whether a run with these pairs of senders, and so many stores to come, can go on to its end without this kind."""
+    # No letter came yet to a store that did not take the ask, so each sender there is can still be its parent.
+    most = tuple([used + many for used, many in zip(uses_in(web, senders), spare)])
+    found = {senders: True}
+    fresh = [senders]
+    while len(fresh) > 0:
+        row = fresh.pop()
+        if kind in near_in(web, row):
+            continue
+        if is_end(web, spare, row):
+            return True
+        for more in rows_behind(web, most, row):
+            if more not in found:
+                found[more] = True
+                fresh.append(more)
+    return False
+
+
+def is_end(web, spare, row):
+    """Whether all stores to come of near kinds can take the ask with marks that bring no pair more to a row."""
+    left = leavings(web, row)
+    settled = [kind for kind, mark in left if (kind, mark) in row or not can_send(web, kind, mark)]
+    return all([kind in settled or number_of(web, spare, kind) == 0 for kind, _ in left])

@@ -37,15 +37,19 @@ def kind_read(text, *, line=0, field=0):
     return name, int(fee), has == "has", table_read(table)
 
 
+def is_numbers_word(word):
+    """Whether a word writes a nonempty tuple of integers from 1 on."""
+    return all([is_figures(part) for part in word.split(",")])
+
+
 def numbers_read(text, *, line=0, field=0):
     """The nonempty tuple of integers from 1 on that a string writes; InvalidText as in kind_read."""
     words = text.split(" ")
-    figures = words[0].split(",")
-    if not all([is_figures(part) for part in figures]):
+    if not is_numbers_word(words[0]):
         raise InvalidText(line, field)
     if len(words) > 1:
         raise InvalidText(line, field + 1)
-    return tuple([int(part) for part in figures])
+    return tuple([int(part) for part in words[0].split(",")])
 
 
 def asker_read(text, line):

@@ -37,6 +37,10 @@ FUNCTIONS = {
                 'letters_of': '(web, numbers, marks, made)'},
     'finding': {'is_surely_found': '(web, numbers, marks)', 'failing_run': '(web, numbers, marks)'},
     'sure': {'sure_marks': '(web, numbers, most)'},
+    'likeness': {'are_alike': '(web, other, marks)', 'parting_kind': '(web, other, marks)'},
+    'replaying': {'is_log': '(thing)', 'replayed': '(log)'},
+    'eventtexts': {'event_line': '(event)', 'log_lines': '(log)'},
+    'eventreadings': {'read_event': '(text)', 'read_log': '(lines)'},
 }
 CLASSES = {
     'webclasses': {
@@ -58,6 +62,15 @@ CLASSES = {
             'fits': '(numbers)', 'grown': '()', 'first': '(web, marks)', 'widest': '(web, marks, *, without=())',
             'parsed': '(web, marks, text)'}),
     },
+    'lives': {
+        'Live': ("(web, numbers, marks, *, guard='off')", {
+            'missable': '()', 'came': '(sender, store)', 'set_guard': '(word)', 'note': '(name)', 'go': '(event)',
+            'tried': '(*events)', 'undo': '()', 'do_all': '(*events, keep=False)', 'tally': '()', 'barred': '(event)',
+            'table': '()', 'taken_since': '(name)', 'waiting_then': '(name)', 'log': '()'}),
+    },
+    'desk': {
+        'Desk': ('()', {'say': '(row)', 'tally': '()'}),
+    },
     'counts': {
         'Count': ('(terms=())', {'worth': '(*pairs)', 'parsed': '(text)', 'unknown': '(name)'}),
     },
@@ -68,6 +81,7 @@ OPERATORS = {
     'Walker': ('iadd',),
     'Plan': ('getitem', 'contains', 'len', 'eq', 'le', 'ge', 'str', 'add', 'or'),
     'Count': ('len', 'add', 'mul', 'eq', 'str'),
+    'Live': ('call', 'getitem', 'contains', 'iter', 'len', 'eq', 'str'),
 }
 PROPERTIES = {
     'Web': ('kinds', 'asker', 'form'),
@@ -77,6 +91,8 @@ PROPERTIES = {
     'Walker': ('path', 'waiting_now', 'takings_now', 'missed_now', 'tree_now', 'over_now'),
     'Plan': ('web', 'marks', 'pairs', 'kinds', 'near', 'quiet', 'uses', 'is_closed'),
     'Count': ('terms', 'names'),
+    'Live': ('guard_now', 'run_now', 'takings_now', 'waiting_now', 'missed_now', 'found_now', 'poor_now', 'next_now', 'falls'),
+    'Desk': (),
 }
 
 

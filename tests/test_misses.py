@@ -1,13 +1,13 @@
 import unittest
 from itertools import product
 
-from firstletter.errors import Missed, NotUsable
+from firstletter.errors import Missed
 from firstletter.misses import can_miss, first_marks, least_numbers, missed_kinds, missing_run
 from firstletter.plans import pairs_of
 from firstletter.reach import best_marks, near_of
 from firstletter.runs import is_over, is_run, missed_after
 from tests import planoracle
-from tests.examples import (ALIKE, ALONE, B, C, Case, MIXED, NEAR, NO_KINDS, NO_MARKS, NO_NUMBERS, ONES, RING)
+from tests.examples import (ALIKE, ALONE, C, Case, MIXED, NEAR, NO_KINDS, NO_MARKS, NO_NUMBERS, ONES, RING)
 from tests.oracle import CHAIN, HAVING, SETTINGS, all_runs, row_of
 from tests.planoracle import FREE, NUMBERED, PLANNED, can_be_missed, ends, is_missed, names, others_of, some_webs
 

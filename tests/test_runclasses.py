@@ -5,7 +5,7 @@ from firstletter.errors import InvalidText, NotUsable
 from firstletter.runclasses import Run
 from firstletter.runs import missed_after, takings_after, waiting_after
 from firstletter.trees import tree_of
-from tests.examples import (A, ALIKE, ALONE, B, C, Case, D, JUNK, LONG, MIXED, NEAR, NO_LETTERS, NO_MARKS, NO_NUMBERS,
+from tests.examples import (A, ALIKE, ALONE, B, C, Case, D, JUNK, LONG, NEAR, NO_LETTERS, NO_MARKS, NO_NUMBERS,
                             ONES, RING, shown)
 from tests.oracle import SETTINGS, all_runs
 from tests.test_stories import NO_RUNS

@@ -5,7 +5,7 @@ from firstletter.webchanges import (asked_by, renamed, with_arrow, with_fee, wit
                                     without_kind)
 from firstletter.webclasses import Dearer, Emptied, Web
 from firstletter.webtexts import web_text
-from tests.examples import ALIKE, ALONE, Case, JUNK, MIXED, NEAR, RING, WEBS
+from tests.examples import Case, JUNK, MIXED, NEAR, RING, WEBS
 
 NO_NAMES = (*JUNK, 'e', 'aa', 'x', ('a',), ['a'], 0, 1, NEAR, NEAR[0][0], ('a', 0), 'B')
 HELD = ((('a', 1, False, ('b', 'c')), ('b', 2, True, ()), ('c', 3, True, ('a', 'c'))), 'a')
